@@ -1,0 +1,1 @@
+"""Cellpatches: patches of like cells."""

@@ -1,0 +1,183 @@
+"""Boards and odd things for the tests, and slow, plain tellings to compare the program with."""
+
+from itertools import product
+
+BOTH_WAYS = (4, 8)
+
+ODD_THINGS = [
+    None, True, False, 0, 1, -1, 2, 3, 4, 5, 7, 8, 9, 12, -4, 10 ** 30,
+    "", " ", "4", "8", "a", "ab", "None", "a\n", "A", "g",
+    [], [[]], [None], [4], [8], ["a"], ["ab", "cd"], [0, 0], [(0, 0)], [[0, 0]], ["a", ["b", ("c",)]],
+    (), ((),), (None,), (4,), (8,), (0,), (1, 2, 3), (True, False), ("0", "0"), (None, None), ([0], [0]),
+    ((0, 0), (0, 0)), ((0, 0),), ("a", 0), (0, "a"), ("a", None), ("a", ["a"]), (("a",), ("a",)),
+    [[[[[[[[[["a"]]]]]]]]]], (((((((((("a",),),),),),),),),),), [([(None, True)], 1)],
+]
+
+NO_BOARDS = [
+    (), ("",), ("", ""), ("a",) * 9, ("ab",) * 20, ("a" * 9,), ("a" * 40,), ("a" * 9,) * 9,
+    ("ab", "a"), ("a", "ab"), ("ab", "ab", "abc"), ("ab", ""), ("", "ab"), ("abc", "ab", "abc"),
+    ("ag",), ("g",), ("A",), ("aB",), ("a b",), ("a.",), (".",), ("a\n",), ("\n",), ("a1",), ("`",),
+    ("ab", "a-"), ("ab", "Fb"), ("\u00e4",), ("\u0430",), ("aa", "a\u0301"),
+    ["ab", "cd"], ["a"], [("a",)], "a", "ab", "abcdef", ("ab", None), (None, "ab"), ("ab", 12), (1,), (True,),
+    (["a", "b"],), (("a", "b"),), ("ab", ["a", "b"]), ("ab", ("a", "b")), (("ab",),), (("ab", "cd"), ("ab", "cd")),
+    ([],), ((),), (("ab",), "ab"),
+]
+
+
+def no_boards():
+    return NO_BOARDS + [thing for thing in ODD_THINGS if thing != ("a",)]
+
+
+def no_letters():
+    return [thing for thing in ODD_THINGS if thing != "a"] + ["B", "F", "aa", "fa", "abcdef", "\u00e4", "`", ("f",)]
+
+
+def no_ways():
+    good = [thing for thing in ODD_THINGS if not (isinstance(thing, int) and thing in (4, 8))]
+    return good + [6, 16, 48, -8, (4, 8), [4, 8], "48"]
+
+
+def no_cells(board):
+    """Things that are no cells of this board; none of the odd things is a tuple of two whole numbers."""
+    rows = len(board)
+    width = len(board[0])
+    bad = [
+        (rows, 0), (0, width), (rows, width), (-1, 0), (0, -1), (-1, -1), (rows + 5, 0), (0, width + 5),
+        (-rows, 0), (0, -width), (8, 0), (0, 8), (9, 9), (10 ** 20, 0), (0, -10 ** 20),
+        (True, 0), (0, True), (False, 0), (0, False), (False, False), (True, True),
+        [0, 0], (0,), (), (0, 0, 0), ((0, 0), 0), ((0, 0),), (0, (0,)), ([0], 0), (0, [0]), (None, 0), (0, None),
+        ("0", 0), (0, "0"), "00", 0, "a",
+    ]
+    return bad + [thing for thing in ODD_THINGS if not is_plain_cell(thing)]
+
+
+def is_plain_cell(thing):
+    return (
+        isinstance(thing, tuple) and len(thing) == 2
+        and isinstance(thing[0], int) and not isinstance(thing[0], bool)
+        and isinstance(thing[1], int) and not isinstance(thing[1], bool)
+    )
+
+
+SIZES = [
+    (1, 1), (1, 2), (2, 1), (1, 8), (8, 1), (2, 2), (2, 3), (3, 2), (3, 3), (2, 8), (8, 2),
+    (3, 5), (5, 3), (4, 4), (5, 5), (4, 7), (7, 4), (6, 6), (8, 8),
+]
+
+
+def drawn_boards(each):
+    """So many boards of every size, of two to six letters; the same ones each time."""
+    state = 12345
+    told = []
+    for rows, width in SIZES:
+        for turn in range(each):
+            many = 2 + turn % 5
+            board = []
+            for _ in range(rows):
+                row = ""
+                for _ in range(width):
+                    state = (state * 1103515245 + 12345) % 2 ** 31
+                    row += "abcdef"[(state >> 16) % many]
+                board.append(row)
+            told.append(tuple(board))
+    return told
+
+
+def every_board(rows, width, letters="ab"):
+    all_rows = ["".join(signs) for signs in product(letters, repeat=width)]
+    return list(product(all_rows, repeat=rows))
+
+
+SNAKE = (
+    "aaaaaaaa",
+    "bbbbbbba",
+    "aaaaaaaa",
+    "abbbbbbb",
+    "aaaaaaaa",
+    "bbbbbbba",
+    "aaaaaaaa",
+    "abbbbbbb",
+)
+
+SPIRAL = (
+    "aaaaaaaa",
+    "bbbbbbba",
+    "aaaaaaba",
+    "abbbbaba",
+    "ababbaba",
+    "abaaaaba",
+    "abbbbbba",
+    "aaaaaaaa",
+)
+
+CHECKERED = tuple("abababab" if row % 2 == 0 else "babababa" for row in range(8))
+
+SIX_LETTERS = ("abcdef", "bcdefa", "cdefab")
+
+KNOWN_BOARDS = [SNAKE, SPIRAL, CHECKERED, SIX_LETTERS, ("a" * 8,) * 8, ("a",), ("f",), ("abba",), ("a", "b", "b", "a")]
+
+
+def sample_boards(each=3):
+    return KNOWN_BOARDS + drawn_boards(each)
+
+
+def plain_cells(board):
+    return [(row, column) for row in range(len(board)) for column in range(len(board[0]))]
+
+
+def plain_beside(board, cell, ways):
+    steps = [(-1, 0), (0, -1), (0, 1), (1, 0)]
+    if ways == 8:
+        steps += [(-1, -1), (-1, 1), (1, -1), (1, 1)]
+    there = [(cell[0] + down, cell[1] + along) for down, along in steps]
+    return sorted(near for near in there if near in plain_cells(board))
+
+
+def plain_likes(board, cell, ways):
+    mine = board[cell[0]][cell[1]]
+    return [(row, column) for row, column in plain_beside(board, cell, ways) if board[row][column] == mine]
+
+
+def plain_patches(board, ways):
+    """Each cell a patch of its own at first; patches that touch and are alike are joined."""
+    owner = {cell: cell for cell in plain_cells(board)}
+    for cell in plain_cells(board):
+        for near in plain_likes(board, cell, ways):
+            old, new = owner[near], owner[cell]
+            if old != new:
+                owner = {key: (new if kept == old else kept) for key, kept in owner.items()}
+    groups = {}
+    for cell in plain_cells(board):
+        groups.setdefault(owner[cell], []).append(cell)
+    return sorted(groups.values())
+
+
+def plain_lengths(board, ways, one):
+    """How many cells the shortest way from the one to each cell of its patch has."""
+    lengths = {one: 1}
+    changed = True
+    while changed:
+        changed = False
+        for cell in list(lengths):
+            for near in plain_likes(board, cell, ways):
+                if lengths.get(near, 10 ** 6) > lengths[cell] + 1:
+                    lengths[near] = lengths[cell] + 1
+                    changed = True
+    return lengths
+
+
+def plain_is_way(board, ways, one, other, thing):
+    """Of a list of cells of the board."""
+    if thing[:1] != [one] or thing[-1:] != [other]:
+        return False
+    for cell, follower in zip(thing, thing[1:]):
+        if follower not in plain_likes(board, cell, ways):
+            return False
+    return True
+
+
+def plain_is_fence(board, ways, one, other, thing):
+    """Of a list of cells of the board: it is whole patches, that of the one, not that of the other."""
+    if one not in thing or other in thing:
+        return False
+    return all(set(patch) <= set(thing) or not set(patch) & set(thing) for patch in plain_patches(board, ways))

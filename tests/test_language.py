@@ -1,0 +1,123 @@
+"""The package keeps to a small part of Python; the rules that can be seen from the code are looked at here."""
+
+import ast
+import builtins
+import re
+import unittest
+from pathlib import Path
+
+PACKAGE = Path(__file__).resolve().parent.parent / "cellpatches"
+
+OWN_NAMES = set("""
+len range enumerate zip min max sum abs sorted reversed int str bool list tuple dict set frozenset isinstance ord
+repr any all divmod Exception ValueError TypeError KeyError IndexError LookupError ZeroDivisionError ArithmeticError
+OverflowError RuntimeError NotImplementedError AttributeError StopIteration
+""".split())
+
+METHODS = set("""
+append clear copy count endswith extend find get index insert isalnum isalpha isdigit islower isspace isupper items
+join keys ljust lower lstrip partition pop remove replace reverse rfind rjust rpartition rsplit rstrip setdefault
+split splitlines startswith strip update upper values zfill bit_length
+""".split())
+
+WORDS = re.compile(
+    r"\b(type|typing|typing_extensions|enum|Enum|IntEnum|StrEnum|Flag|IntFlag|Generic|Protocol|ABC|ABCMeta|"
+    r"namedtuple|NamedTuple|TypedDict|TYPE_CHECKING|abstractmethod)\b|dataclass|overload|contextmanager"
+)
+
+LEFT_OUT = (
+    ast.With, ast.Match, ast.Delete, ast.Global, ast.Nonlocal, ast.Assert, ast.Yield, ast.YieldFrom, ast.Await,
+    ast.AsyncFunctionDef, ast.AsyncFor, ast.AsyncWith, ast.SetComp, ast.DictComp, ast.GeneratorExp, ast.NamedExpr,
+    ast.Starred, ast.Div, ast.Import, ast.AnnAssign,
+)
+
+
+def files():
+    return sorted(path for path in PACKAGE.rglob("*") if "__pycache__" not in path.parts)
+
+
+def trees():
+    return [(path.name, ast.parse(path.read_text(encoding="utf-8"))) for path in files()]
+
+
+def nodes():
+    return [(f"{name}:{getattr(node, 'lineno', 0)}", node) for name, tree in trees() for node in ast.walk(tree)]
+
+
+class TestFiles(unittest.TestCase):
+    def test_plain_files_alone(self):
+        self.assertIn(PACKAGE / "__init__.py", files())
+        for path in files():
+            self.assertRegex(path.name, r"^[a-z0-9_]+\.py$")
+
+    def test_signs_and_lengths(self):
+        for path in files():
+            text = path.read_bytes().decode("utf-8")
+            self.assertRegex(text, r"\A[ -~\n]*\Z", path.name)
+            self.assertLessEqual(len(text.splitlines()), 400, path.name)
+            for line in text.splitlines():
+                self.assertLessEqual(len(line), 120, (path.name, line))
+                self.assertIsNone(WORDS.search(line), (path.name, line))
+
+
+class TestCode(unittest.TestCase):
+    def test_what_is_left_out(self):
+        for place, node in nodes():
+            self.assertNotIsInstance(node, LEFT_OUT, place)
+            if isinstance(node, ast.Constant):
+                self.assertNotIsInstance(node.value, (float, bytes, complex), place)
+            if isinstance(node, ast.ListComp):
+                self.assertEqual(len(node.generators), 1, place)
+                self.assertLessEqual(len(node.generators[0].ifs), 1, place)
+            if isinstance(node, (ast.For, ast.While)):
+                self.assertEqual(node.orelse, [], place)
+            if isinstance(node, ast.Try):
+                self.assertEqual(node.finalbody, [], place)
+            if isinstance(node, ast.Assign):
+                self.assertEqual(len(node.targets), 1, place)
+
+    def test_is_beside_none_true_and_false_alone(self):
+        for place, node in nodes():
+            if isinstance(node, ast.Compare):
+                for sign, right in zip(node.ops, node.comparators):
+                    if isinstance(sign, (ast.Is, ast.IsNot)):
+                        self.assertIn(getattr(right, "value", 0), (None, True, False), place)
+
+    def test_functions(self):
+        for place, node in nodes():
+            if isinstance(node, (ast.FunctionDef, ast.ClassDef)):
+                self.assertEqual(node.decorator_list, [], place)
+            if isinstance(node, ast.FunctionDef):
+                self.assertLessEqual(node.end_lineno - node.lineno + 1, 40, place)
+                self.assertIsNone(node.args.vararg, place)
+                self.assertIsNone(node.args.kwarg, place)
+                self.assertEqual(node.args.kwonlyargs + node.args.posonlyargs, [], place)
+
+    def test_names(self):
+        for place, node in nodes():
+            if isinstance(node, ast.Name) and hasattr(builtins, node.id):
+                self.assertIn(node.id, OWN_NAMES, place)
+                self.assertIsInstance(node.ctx, ast.Load, place)
+            if isinstance(node, ast.Name):
+                self.assertFalse(node.id.startswith("_"), place)
+            if isinstance(node, ast.arg):
+                self.assertFalse(node.arg.startswith("_") or hasattr(builtins, node.arg), place)
+
+    def test_imports(self):
+        for name, tree in trees():
+            for node in ast.walk(tree):
+                if isinstance(node, ast.ImportFrom):
+                    self.assertEqual(node.level, 0, name)
+                    self.assertTrue(node.module.startswith("cellpatches."), name)
+                    self.assertIn(node, tree.body, name)
+                    self.assertNotIn("*", [alias.name for alias in node.names], name)
+
+    def test_methods(self):
+        own = {node.name for _, node in nodes() if isinstance(node, ast.FunctionDef)}
+        for place, node in nodes():
+            if isinstance(node, ast.Call) and isinstance(node.func, ast.Attribute):
+                self.assertIn(node.func.attr, METHODS | own, place)
+
+
+if __name__ == "__main__":
+    unittest.main()

@@ -1,0 +1,203 @@
+"""[0.2] (a), (b) What holds of all boards. [0.3] New lists, what is handed in, which refusal is raised."""
+
+import copy
+import unittest
+from itertools import product
+
+import samples
+from cellpatches import boards, patches
+from cellpatches.errors import NoBoard, NoCell, NoFit, NoLetter, NoWays, PatchError
+
+
+def sizes(board, ways):
+    return sorted(len(patch) for patch in patches.patches(board, ways))
+
+
+class TestAllBoards(unittest.TestCase):
+    def test_patches_part_the_board(self):
+        for board in samples.sample_boards(5):
+            for ways in samples.BOTH_WAYS:
+                told = patches.patches(board, ways)
+                self.assertEqual(sorted(sum(told, [])), boards.cells(board))
+                for patch in told:
+                    self.assertEqual(len({boards.letter_at(board, cell) for cell in patch}), 1)
+
+    def test_a_way_or_a_fence_and_not_both(self):
+        for board in samples.sample_boards(2):
+            some = boards.cells(board)
+            for ways, one, other in product(samples.BOTH_WAYS, some[::6], some[::4]):
+                told = patches.way(board, ways, one, other)
+                patch = patches.patch_of(board, one, ways)
+                has_way = told is not None and patches.is_way(board, ways, one, other, told)
+                has_fence = patches.is_fence(board, ways, one, other, patch)
+                self.assertNotEqual(has_way, has_fence, (board, ways, one, other))
+                self.assertIs(patches.are_one(board, ways, one, other), has_way)
+
+    def test_no_more_over_corners(self):
+        fewer = 0
+        for board in samples.sample_boards(5):
+            over_corners = patches.how_many(board, 8)
+            over_sides = patches.how_many(board, 4)
+            self.assertLessEqual(over_corners, over_sides)
+            fewer += over_corners < over_sides
+        self.assertGreater(fewer, 10)
+
+    def test_turned_and_mirrored(self):
+        for board in samples.sample_boards(5):
+            for ways in samples.BOTH_WAYS:
+                for other in (boards.turned(board), boards.mirrored(board)):
+                    self.assertEqual(patches.how_many(other, ways), patches.how_many(board, ways))
+                    self.assertEqual(sizes(other, ways), sizes(board, ways))
+
+
+def list_calls():
+    board = ("aab", "bab", "abb")
+    return [
+        (boards.cells, (board,)),
+        (boards.beside, (board, (1, 1), 8)),
+        (boards.beside, (("a",), (0, 0), 4)),
+        (boards.letters, (board,)),
+        (patches.patch_of, (board, (0, 0), 4)),
+        (patches.patches, (board, 4)),
+        (patches.numbered, (board, 8)),
+        (patches.way, (board, 4, (0, 0), (1, 1))),
+        (patches.way, (board, 4, (0, 0), (0, 0))),
+    ]
+
+
+class TestNewLists(unittest.TestCase):
+    def test_changed_and_asked_again(self):
+        for function, handed in list_calls():
+            with self.subTest(function.__name__):
+                first = function(*handed)
+                kept = copy.deepcopy(first)
+                for part in first:
+                    if isinstance(part, list):
+                        part.reverse()
+                        part.append("spoilt")
+                first.reverse()
+                first.append("spoilt")
+                self.assertEqual(function(*handed), kept)
+
+    def test_no_list_is_told_twice(self):
+        for function, handed in list_calls():
+            with self.subTest(function.__name__):
+                first = function(*handed)
+                second = function(*handed)
+                self.assertIsNot(first, second)
+                inner = [part for part in first + second if isinstance(part, list)]
+                self.assertEqual(len({id(part) for part in inner}), len(inner))
+
+
+class TestHandedIn(unittest.TestCase):
+    def test_lists_are_as_they_were(self):
+        board = ("aab", "bab")
+        things = [
+            [], [(0, 0)], [(0, 0), (0, 1), (1, 1)], [(1, 1), (0, 1), (0, 0)], [(0, 1), (0, 1), (0, 0), (1, 1)],
+            [[0, 0], [0, 1]], [None, [True, ("a",)]],
+        ]
+        for thing in things:
+            for function in (patches.is_way, patches.is_fence):
+                for other in ((1, 1), (1, 0)):
+                    kept = copy.deepcopy(thing)
+                    function(board, 4, (0, 0), other, thing)
+                    self.assertEqual(thing, kept)
+
+    def test_refused_lists_are_as_they_were(self):
+        no_board = ["ab", ["cd"]]
+        no_cell = [0, [0]]
+        with self.assertRaises(NoBoard):
+            boards.cells(no_board)
+        with self.assertRaises(NoCell):
+            boards.letter_at(("ab",), no_cell)
+        self.assertEqual(no_board, ["ab", ["cd"]])
+        self.assertEqual(no_cell, [0, [0]])
+
+    def test_boards_are_as_they_were(self):
+        board = ("aab", "bab")
+        boards.with_letter(board, (0, 0), "f")
+        boards.turned(board)
+        boards.mirrored(board)
+        boards.stacked(board, board)
+        patches.numbered(board, 4)
+        self.assertEqual(board, ("aab", "bab"))
+
+    def test_equal_boards_are_told_alike(self):
+        one = ("aab", "bab")
+        other = tuple("".join(signs) for signs in (["a", "a", "b"], ["b", "a", "b"]))
+        for ways in samples.BOTH_WAYS:
+            self.assertEqual(patches.patches(one, ways), patches.patches(other, ways))
+            self.assertIs(patches.are_one(one, ways, (0, 0), tuple([1, 1])), True)
+
+
+BOARD_PART = (("aab", "bab"), [None, ["aab"], ("ab", "a"), (), 4], NoBoard)
+CELL_PART = ((0, 0), [None, (2, 0), (0, -1), [0, 0], (True, 0)], NoCell)
+WAYS_PART = (4, [None, 5, True, "4", [8]], NoWays)
+LETTER_PART = ("a", [None, "g", "", ["a"], 1], NoLetter)
+
+CALLS = [
+    (boards.cells, [BOARD_PART]),
+    (boards.letter_at, [BOARD_PART, CELL_PART]),
+    (boards.with_letter, [BOARD_PART, CELL_PART, LETTER_PART]),
+    (boards.beside, [BOARD_PART, CELL_PART, WAYS_PART]),
+    (boards.turned, [BOARD_PART]),
+    (boards.mirrored, [BOARD_PART]),
+    (boards.stacked, [BOARD_PART, BOARD_PART]),
+    (boards.letters, [BOARD_PART]),
+    (patches.patch_of, [BOARD_PART, CELL_PART, WAYS_PART]),
+    (patches.patches, [BOARD_PART, WAYS_PART]),
+    (patches.how_many, [BOARD_PART, WAYS_PART]),
+    (patches.numbered, [BOARD_PART, WAYS_PART]),
+    (patches.are_one, [BOARD_PART, WAYS_PART, CELL_PART, CELL_PART]),
+    (patches.way, [BOARD_PART, WAYS_PART, CELL_PART, CELL_PART]),
+]
+
+
+class TestWhichRefusal(unittest.TestCase):
+    def check(self, function, parts, handed, spoilt, more=()):
+        """Only the first refusal may come, and all that stands above it must catch it."""
+        wanted = parts[min(spoilt)][2]
+        with self.assertRaises(PatchError, msg=(function.__name__, handed)) as caught:
+            function(*handed, *more)
+        self.assertIs(type(caught.exception), wanted, (function.__name__, handed))
+        self.assertIsInstance(caught.exception, ValueError)
+
+    def check_all(self, function, parts, more=()):
+        for spoiling in product((False, True), repeat=len(parts)):
+            spoilt = [place for place, is_spoilt in enumerate(spoiling) if is_spoilt]
+            if not spoilt:
+                continue
+            choices = [part[1] if is_spoilt else [part[0]] for part, is_spoilt in zip(parts, spoiling)]
+            for handed in product(*choices):
+                self.check(function, parts, handed, spoilt, more)
+
+    def test_what_is_handed_in_first(self):
+        for function, parts in CALLS:
+            with self.subTest(function.__name__):
+                self.check_all(function, parts)
+
+    def test_ways_and_fences(self):
+        parts = [BOARD_PART, WAYS_PART, CELL_PART, CELL_PART]
+        for thing in ([(0, 0)], [], None, "way"):
+            self.check_all(patches.is_way, parts, (thing,))
+            self.check_all(patches.is_fence, parts, (thing,))
+
+    def test_boards_ahead_of_their_fit(self):
+        for thing in BOARD_PART[1]:
+            for good in [("ab",), ("abc",) * 8]:
+                for one, other in [(good, thing), (thing, good)]:
+                    with self.assertRaises(NoBoard):
+                        boards.stacked(one, other)
+        with self.assertRaises(NoFit) as caught:
+            boards.stacked(("a",) * 8, ("ab",))
+        self.assertIsInstance(caught.exception, PatchError)
+
+    def test_a_cell_is_one_of_that_board(self):
+        for board, cell in [(("ab",), (1, 0)), (("a", "b"), (0, 1)), (("abc", "abc"), (2, 1))]:
+            with self.assertRaises(NoCell):
+                boards.letter_at(board, cell)
+            self.assertIsInstance(boards.letter_at(boards.turned(board), cell), str)
+
+
+if __name__ == "__main__":
+    unittest.main()

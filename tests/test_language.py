@@ -1,4 +1,4 @@
-"""The package keeps to a small part of Python; the rules that can be seen from the code are looked at here."""
+"""The package keeps to a small part of Python; some of the rules that the code itself shows are looked at here."""
 
 import ast
 import builtins

@@ -58,18 +58,27 @@ def need_letter(thing):
         raise NoLetter("one of the letters a to f is asked for")
 
 
+def need_letters(thing):
+    if not isinstance(thing, list) or not all([is_letter(part) for part in thing]):
+        raise NoLetter("a list of letters from a to f is asked for")
+
+
 def need_ways(thing):
     if not is_whole(thing) or thing not in (4, 8):
         raise NoWays("ways are 4 or 8")
 
 
-# The next four ask for nothing, so that walks over a board don't look at all of it at each step.
+# The next ones ask for nothing, so that walks over a board don't look at all of it at each step.
+
+
+def cells_of_row(board, row):
+    return [(row, column) for column in range(len(board[0]))]
 
 
 def all_cells(board):
     found = []
     for row in range(len(board)):
-        found.extend([(row, column) for column in range(len(board[0]))])
+        found.extend(cells_of_row(board, row))
     return found
 
 
@@ -94,6 +103,23 @@ def next_cells(board, cell, ways):
     return found
 
 
+# To be asked with `in`, which a long list answers slowly.
+def keyed(things):
+    found = {}
+    for thing in things:
+        found[thing] = True
+    return found
+
+
+def with_letters(board, some, letter):
+    marked = keyed(some)
+    told = []
+    for row in range(len(board)):
+        places = cells_of_row(board, row)
+        told.append("".join([letter if cell in marked else letter_of(board, cell) for cell in places]))
+    return tuple(told)
+
+
 def cells(board):
     need_board(board)
     return all_cells(board)
@@ -109,9 +135,7 @@ def with_letter(board, cell, letter):
     need_board(board)
     need_cell(board, cell)
     need_letter(letter)
-    old = board[cell[0]]
-    new = old[:cell[1]] + letter + old[cell[1] + 1:]
-    return board[:cell[0]] + (new,) + board[cell[0] + 1:]
+    return with_letters(board, [cell], letter)
 
 
 def beside(board, cell, ways):

@@ -3,7 +3,9 @@
 from cellpatches.boards import (
     all_cells,
     are_next,
+    cells_of_row,
     is_list_of_cells,
+    keyed,
     letter_of,
     need_board,
     need_cell,
@@ -46,9 +48,43 @@ def all_patches(board, ways):
         if cell not in seen:
             patch = sorted(steps_back(board, cell, ways))
             found.append(patch)
-            for member in patch:
-                seen[member] = True
+            seen.update(keyed(patch))
     return found
+
+
+def numbers_of(found):
+    numbers = {}
+    for number, patch in enumerate(found):
+        for cell in patch:
+            numbers[cell] = number
+    return numbers
+
+
+def part_from(board, start, among, ways):
+    part = {start: True}
+    ring = [start]
+    while ring:
+        further = []
+        for cell in ring:
+            for near in next_cells(board, cell, ways):
+                if near in among and near not in part:
+                    part[near] = True
+                    further.append(near)
+        ring = further
+    return list(part)
+
+
+# Unlike patches, these hang together over all cells of the list, whatever their letters.
+def parts_of(board, some, ways):
+    among = keyed(some)
+    parts = []
+    seen = {}
+    for cell in some:
+        if cell not in seen:
+            part = part_from(board, cell, among, ways)
+            parts.append(part)
+            seen.update(keyed(part))
+    return parts
 
 
 def patch_of(board, cell, ways):
@@ -73,13 +109,10 @@ def how_many(board, ways):
 def numbered(board, ways):
     need_board(board)
     need_ways(ways)
-    numbers = {}
-    for number, patch in enumerate(all_patches(board, ways)):
-        for cell in patch:
-            numbers[cell] = number
+    numbers = numbers_of(all_patches(board, ways))
     told = []
     for row in range(len(board)):
-        told.append([numbers[(row, column)] for column in range(len(board[0]))])
+        told.append([numbers[cell] for cell in cells_of_row(board, row)])
     return told
 
 
@@ -116,9 +149,7 @@ def is_fence(board, ways, one, other, thing):
     need_two_cells(board, ways, one, other)
     if not is_list_of_cells(board, thing):
         return False
-    inside = {}
-    for cell in thing:
-        inside[cell] = True
+    inside = keyed(thing)
     if one not in inside or other in inside:
         return False
     for cell in inside:

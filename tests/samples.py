@@ -1,5 +1,7 @@
 """Boards and odd things for the tests, and slow, plain tellings to compare the program with."""
 
+from collections import Counter
+from functools import lru_cache
 from itertools import product
 
 BOTH_WAYS = (4, 8)
@@ -51,12 +53,22 @@ def no_cells(board):
     return bad + [thing for thing in ODD_THINGS if not is_plain_cell(thing)]
 
 
+def no_numbers(least, most):
+    """Things that are no whole numbers from the least to the most."""
+    bad = [
+        least - 1, most + 1, most + 2, -least - 1, -most - 1, 1000, -1000, -10 ** 30, str(least), str(most),
+        [least], [most], (least,), (most,), [], (), (least, most), "", "0", "1",
+    ]
+    things = bad + ODD_THINGS
+    return [thing for thing in things if not is_plain_whole(thing) or not least <= thing <= most]
+
+
+def is_plain_whole(thing):
+    return isinstance(thing, int) and not isinstance(thing, bool)
+
+
 def is_plain_cell(thing):
-    return (
-        isinstance(thing, tuple) and len(thing) == 2
-        and isinstance(thing[0], int) and not isinstance(thing[0], bool)
-        and isinstance(thing[1], int) and not isinstance(thing[1], bool)
-    )
+    return isinstance(thing, tuple) and len(thing) == 2 and is_plain_whole(thing[0]) and is_plain_whole(thing[1])
 
 
 SIZES = [
@@ -65,11 +77,11 @@ SIZES = [
 ]
 
 
-def drawn_boards(each):
+def drawn_boards(each, sizes=SIZES):
     """So many boards of every size, of two to six letters; the same ones each time."""
     state = 12345
     told = []
-    for rows, width in SIZES:
+    for rows, width in sizes:
         for turn in range(each):
             many = 2 + turn % 5
             board = []
@@ -125,12 +137,20 @@ def plain_cells(board):
     return [(row, column) for row in range(len(board)) for column in range(len(board[0]))]
 
 
-def plain_beside(board, cell, ways):
+def steps_from(cell, ways):
     steps = [(-1, 0), (0, -1), (0, 1), (1, 0)]
     if ways == 8:
         steps += [(-1, -1), (-1, 1), (1, -1), (1, 1)]
-    there = [(cell[0] + down, cell[1] + along) for down, along in steps]
-    return sorted(near for near in there if near in plain_cells(board))
+    return [(cell[0] + down, cell[1] + along) for down, along in steps]
+
+
+@lru_cache(maxsize=None)
+def steps_within(rows, width, cell, ways):
+    return sorted(near for near in steps_from(cell, ways) if 0 <= near[0] < rows and 0 <= near[1] < width)
+
+
+def plain_beside(board, cell, ways):
+    return list(steps_within(len(board), len(board[0]), cell, ways))
 
 
 def plain_likes(board, cell, ways):
@@ -181,3 +201,97 @@ def plain_is_fence(board, ways, one, other, thing):
     if one not in thing or other in thing:
         return False
     return all(set(patch) <= set(thing) or not set(patch) & set(thing) for patch in plain_patches(board, ways))
+
+
+def plain_number_at(board, ways):
+    return {cell: number for number, patch in enumerate(plain_patches(board, ways)) for cell in patch}
+
+
+def plain_rim(patch):
+    return sum(side not in patch for cell in patch for side in steps_from(cell, 4))
+
+
+def plain_groups(some, ways):
+    """How many parts some cells have that hang together by the ways."""
+    left = set(some)
+    many = 0
+    while left:
+        many += 1
+        grown = {left.pop()}
+        while grown:
+            grown = {near for cell in grown for near in steps_from(cell, ways)} & left
+            left -= grown
+    return many
+
+
+def plain_shut_in(board, ways, patch):
+    """The board lies in the midst of free cells, from which all that is not shut in is come to."""
+    rows, width = len(board), len(board[0])
+    field = {(row, column) for row in range(-1, rows + 1) for column in range(-1, width + 1)}
+    free = field - set(patch)
+    come_to = {(-1, -1)}
+    grown = come_to
+    while grown:
+        grown = {near for cell in grown for near in steps_from(cell, 12 - ways)} & free - come_to
+        come_to = come_to | grown
+    return sorted(free - come_to)
+
+
+def plain_touching(board, ways):
+    number_at = plain_number_at(board, ways)
+    shared = Counter()
+    for row, column in number_at:
+        for near in [(row, column + 1), (row + 1, column)]:
+            if near in number_at and number_at[near] != number_at[row, column]:
+                shared[tuple(sorted([number_at[near], number_at[row, column]]))] += 1
+    return sorted(shared.items())
+
+
+def plain_patch(board, cell, ways):
+    patch = {cell}
+    grown = patch
+    while grown:
+        grown = {near for member in grown for near in plain_likes(board, member, ways)} - patch
+        patch = patch | grown
+    return patch
+
+
+def plain_marked(board, marked, letter):
+    rows = []
+    for row in range(len(board)):
+        rows.append("".join(letter if (row, column) in marked else sign for column, sign in enumerate(board[row])))
+    return tuple(rows)
+
+
+def plain_painted(board, cell, ways, letter):
+    return plain_marked(board, plain_patch(board, cell, ways), letter)
+
+
+def is_one_letter(board):
+    return len(set("".join(board))) == 1
+
+
+def plain_fewest(board, ways):
+    """How many paints it takes: all boards that one paint makes, two make, and so on, till one is of one letter."""
+    many = 0
+    now = {board}
+    while not any(is_one_letter(each) for each in now):
+        now = {plain_painted(each, (0, 0), ways, letter) for each in now for letter in "abcdef"}
+        many += 1
+    return many
+
+
+def plain_melted_once(board, ways, least):
+    found = plain_patches(board, ways)
+    small = [patch for patch in found if len(patch) < least]
+    if len(found) == 1 or not small:
+        return None
+    fewest = min(len(patch) for patch in small)
+    melting = next(patch for patch in small if len(patch) == fewest)
+    best = None
+    for patch in found:
+        sides = sum(side in patch for cell in melting for side in steps_from(cell, 4))
+        if patch != melting and sides and (best is None or (sides, len(patch)) > best[:2]):
+            best = (sides, len(patch), patch)
+    row, column = best[2][0]
+    return plain_marked(board, melting, board[row][column])

@@ -112,6 +112,43 @@ class TestCode(unittest.TestCase):
                     self.assertIn(node, tree.body, name)
                     self.assertNotIn("*", [alias.name for alias in node.names], name)
 
+    def test_imports_come_from_where_they_are_defined(self):
+        defined = {}
+        for name, tree in trees():
+            names = {node.name for node in tree.body if isinstance(node, (ast.FunctionDef, ast.ClassDef))}
+            for node in tree.body:
+                if isinstance(node, ast.Assign):
+                    names |= {target.id for target in node.targets}
+            defined["cellpatches." + name[:-3]] = names
+        for name, tree in trees():
+            for node in tree.body:
+                if isinstance(node, ast.ImportFrom):
+                    for alias in node.names:
+                        self.assertIn(alias.name, defined[node.module], (name, alias.name))
+
+    def test_no_two_files_draw_from_one_another(self):
+        drawn = {}
+        for name, tree in trees():
+            drawn["cellpatches." + name[:-3]] = {n.module for n in tree.body if isinstance(n, ast.ImportFrom)}
+        while drawn:
+            free = [name for name in drawn if not drawn[name] & set(drawn)]
+            self.assertTrue(free, sorted(drawn))
+            for name in free:
+                del drawn[name]
+
+    def test_imports_are_used_and_not_hidden(self):
+        for name, tree in trees():
+            imported = {alias.name for n in tree.body if isinstance(n, ast.ImportFrom) for alias in n.names}
+            read = set()
+            for node in ast.walk(tree):
+                if isinstance(node, ast.arg):
+                    self.assertNotIn(node.arg, imported, name)
+                if isinstance(node, ast.Name) and isinstance(node.ctx, ast.Store):
+                    self.assertNotIn(node.id, imported, name)
+                if isinstance(node, ast.Name) and isinstance(node.ctx, ast.Load):
+                    read.add(node.id)
+            self.assertEqual(imported - read, set(), name)
+
     def test_methods(self):
         own = {node.name for _, node in nodes() if isinstance(node, ast.FunctionDef)}
         for place, node in nodes():

@@ -1,12 +1,12 @@
-"""[0.2] (a), (b) What holds of all boards. [0.3] New lists, what is handed in, which refusal is raised."""
+"""[0.2] (a) to (e) What holds of all boards. [0.3] New lists, what is handed in, which refusal is raised."""
 
 import copy
 import unittest
 from itertools import product
 
 import samples
-from cellpatches import boards, patches
-from cellpatches.errors import NoBoard, NoCell, NoFit, NoLetter, NoWays, PatchError
+from cellpatches import boards, measures, melting, painting, patches
+from cellpatches.errors import NoBoard, NoCell, NoFit, NoLetter, NoNumber, NoWays, PatchError
 
 
 def sizes(board, ways):
@@ -50,6 +50,55 @@ class TestAllBoards(unittest.TestCase):
                     self.assertEqual(sizes(other, ways), sizes(board, ways))
 
 
+    def test_sizes_and_rims(self):
+        for board in samples.sample_boards(5):
+            rows, width = len(board), len(board[0])
+            for ways in samples.BOTH_WAYS:
+                numbers = range(patches.how_many(board, ways))
+                all_sizes = [measures.size(board, ways, number) for number in numbers]
+                all_rims = [measures.rim(board, ways, number) for number in numbers]
+                between = sum(sides for pair, sides in measures.touching(board, ways))
+                self.assertEqual(sum(all_sizes), rows * width, (board, ways))
+                self.assertEqual(sum(all_rims), 2 * between + 2 * (rows + width), (board, ways))
+
+    def test_a_painted_patch_hangs_together_with_all_that_touch_it(self):
+        grown = 0
+        for board in samples.sample_boards(3):
+            for ways in samples.BOTH_WAYS:
+                for cell, letter in zip(boards.cells(board)[::3], "abcdef" * 11):
+                    patch = patches.patch_of(board, cell, ways)
+                    wanted = set(patch)
+                    near = {other for member in patch for other in boards.beside(board, member, ways)}
+                    for other in near:
+                        if boards.letter_at(board, other) == letter:
+                            wanted |= set(patches.patch_of(board, other, ways))
+                    then = painting.painted(board, cell, ways, letter)
+                    self.assertEqual(patches.patch_of(then, cell, ways), sorted(wanted), (board, cell, ways, letter))
+                    grown += len(wanted) > len(patch)
+        self.assertGreater(grown, 100)
+
+    def test_the_fewest_paints(self):
+        for board in samples.drawn_boards(5, [(1, 6), (2, 3), (2, 4), (3, 3), (3, 4), (4, 3), (6, 2)]):
+            for ways in samples.BOTH_WAYS:
+                told = painting.fewest_paints(board, ways)
+                self.assertEqual(len(boards.letters(painting.paints_over(board, ways, told))), 1)
+                now = {board}
+                for _ in told:
+                    self.assertFalse(any(len(boards.letters(each)) == 1 for each in now), (board, ways, told))
+                    now = {painting.paints_over(each, ways, [letter]) for each in now for letter in "abcdef"}
+
+    def test_melted_boards(self):
+        for board in samples.sample_boards(3):
+            for ways in samples.BOTH_WAYS:
+                for least in (1, 2, 3, 4, 7, 20, 64):
+                    then = melting.melted(board, ways, least)
+                    self.assertTrue(patches.how_many(then, ways) == 1 or min(sizes(then, ways)) >= least)
+                    self.assertEqual(melting.melted(then, ways, least), then)
+                    self.assertIsNone(melting.melted_once(then, ways, least))
+                    way_there = melting.steps_of(board, ways, least)
+                    self.assertEqual((way_there[0], way_there[-1]), (board, then))
+
+
 def list_calls():
     board = ("aab", "bab", "abb")
     return [
@@ -62,6 +111,17 @@ def list_calls():
         (patches.numbered, (board, 8)),
         (patches.way, (board, 4, (0, 0), (1, 1))),
         (patches.way, (board, 4, (0, 0), (0, 0))),
+        (measures.shut_in, (("aaaa", "abca", "aaaa"), 4, 0)),
+        (measures.shut_in, (board, 4, 0)),
+        (measures.touching, (board, 4)),
+        (measures.touching, (("a",), 4)),
+        (measures.at_edge, (board, 4)),
+        (painting.cuts, (board, 4)),
+        (painting.cuts, (("a",), 8)),
+        (painting.fewest_paints, (board, 4)),
+        (painting.fewest_paints, (("a",), 4)),
+        (melting.steps_of, (board, 4, 3)),
+        (melting.steps_of, (("a",), 4, 3)),
     ]
 
 
@@ -120,7 +180,21 @@ class TestHandedIn(unittest.TestCase):
         boards.mirrored(board)
         boards.stacked(board, board)
         patches.numbered(board, 4)
+        painting.painted(board, (0, 0), 4, "f")
+        painting.paints_over(board, 4, ["f", "b"])
+        painting.fewest_paints(board, 4)
+        melting.melted(board, 4, 6)
         self.assertEqual(board, ("aab", "bab"))
+
+    def test_letters_are_as_they_were(self):
+        for letters in [[], ["b"], ["f", "b", "b"]]:
+            kept = list(letters)
+            painting.paints_over(("aab", "bab"), 4, letters)
+            self.assertEqual(letters, kept)
+        letters = ["f", ["b"], "a"]
+        with self.assertRaises(NoLetter):
+            painting.paints_over(("aab", "bab"), 4, letters)
+        self.assertEqual(letters, ["f", ["b"], "a"])
 
     def test_equal_boards_are_told_alike(self):
         one = ("aab", "bab")
@@ -134,6 +208,9 @@ BOARD_PART = (("aab", "bab"), [None, ["aab"], ("ab", "a"), (), 4], NoBoard)
 CELL_PART = ((0, 0), [None, (2, 0), (0, -1), [0, 0], (True, 0)], NoCell)
 WAYS_PART = (4, [None, 5, True, "4", [8]], NoWays)
 LETTER_PART = ("a", [None, "g", "", ["a"], 1], NoLetter)
+LETTERS_PART = (["b"], [["g"], ["a", None], [1, "a"], ["b", ["a"]]], NoLetter)
+NUMBER_PART = (0, [None, -1, 3, True, "0", [0], (0,)], NoNumber)
+LEAST_PART = (2, [None, 0, 65, -2, True, "2", [2], (2,)], NoNumber)
 
 CALLS = [
     (boards.cells, [BOARD_PART]),
@@ -150,6 +227,22 @@ CALLS = [
     (patches.numbered, [BOARD_PART, WAYS_PART]),
     (patches.are_one, [BOARD_PART, WAYS_PART, CELL_PART, CELL_PART]),
     (patches.way, [BOARD_PART, WAYS_PART, CELL_PART, CELL_PART]),
+    (measures.size, [BOARD_PART, WAYS_PART, NUMBER_PART]),
+    (measures.rim, [BOARD_PART, WAYS_PART, NUMBER_PART]),
+    (measures.box, [BOARD_PART, WAYS_PART, NUMBER_PART]),
+    (measures.shut_in, [BOARD_PART, WAYS_PART, NUMBER_PART]),
+    (measures.holes, [BOARD_PART, WAYS_PART, NUMBER_PART]),
+    (measures.touching, [BOARD_PART, WAYS_PART]),
+    (measures.greatest, [BOARD_PART, WAYS_PART]),
+    (measures.at_edge, [BOARD_PART, WAYS_PART]),
+    (painting.painted, [BOARD_PART, CELL_PART, WAYS_PART, LETTER_PART]),
+    (painting.change, [BOARD_PART, CELL_PART, WAYS_PART, LETTER_PART]),
+    (painting.cuts, [BOARD_PART, WAYS_PART]),
+    (painting.paints_over, [BOARD_PART, WAYS_PART, LETTERS_PART]),
+    (painting.fewest_paints, [BOARD_PART, WAYS_PART]),
+    (melting.melted_once, [BOARD_PART, WAYS_PART, LEAST_PART]),
+    (melting.melted, [BOARD_PART, WAYS_PART, LEAST_PART]),
+    (melting.steps_of, [BOARD_PART, WAYS_PART, LEAST_PART]),
 ]
 
 

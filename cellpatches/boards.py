@@ -68,6 +68,13 @@ def need_ways(thing):
         raise NoWays("ways are 4 or 8")
 
 
+def need_fit(one, other):
+    if len(one[0]) != len(other[0]):
+        raise NoFit("the boards are not as wide")
+    if len(one) + len(other) > MOST_ROWS:
+        raise NoFit("the boards have more than 8 rows together")
+
+
 # The next ones ask for nothing, so that walks over a board don't look at all of it at each step.
 
 
@@ -162,10 +169,7 @@ def mirrored(board):
 def stacked(one, other):
     need_board(one)
     need_board(other)
-    if len(one[0]) != len(other[0]):
-        raise NoFit("the boards are not as wide")
-    if len(one) + len(other) > MOST_ROWS:
-        raise NoFit("the boards have more than 8 rows together")
+    need_fit(one, other)
     return one + other
 
 

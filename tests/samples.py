@@ -133,6 +133,11 @@ def sample_boards(each=3):
     return KNOWN_BOARDS + drawn_boards(each)
 
 
+def cut_boards(board):
+    """The board cut in two, behind each of its rows but the last."""
+    return [(board[:row], board[row:]) for row in range(1, len(board))]
+
+
 def plain_cells(board):
     return [(row, column) for row in range(len(board)) for column in range(len(board[0]))]
 

@@ -156,5 +156,32 @@ class TestCode(unittest.TestCase):
                 self.assertIn(node.func.attr, METHODS | own, place)
 
 
+def methods_of(node):
+    return [part.name for part in node.body if isinstance(part, ast.FunctionDef)]
+
+
+class TestClasses(unittest.TestCase):
+    def classes(self):
+        return [(place, node) for place, node in nodes() if isinstance(node, ast.ClassDef)]
+
+    def test_bodies(self):
+        for place, node in self.classes():
+            self.assertLessEqual(len(node.bases), 1, place)
+            self.assertEqual(node.keywords, [], place)
+            for part in node.body:
+                self.assertIsInstance(part, (ast.FunctionDef, ast.Pass), place)
+            self.assertEqual(len(set(methods_of(node))), len(methods_of(node)), place)
+
+    def test_names_of_methods_and_values(self):
+        attributes = [node for _, node in nodes() if isinstance(node, ast.Attribute)]
+        values = {node.attr for node in attributes if isinstance(node.ctx, ast.Store)}
+        methods = {name for _, node in self.classes() for name in methods_of(node)}
+        self.assertEqual(values & methods, set())
+        pythons_own = {name for kind in (str, int, list, dict, set, bytes, tuple) for name in dir(kind)}
+        self.assertEqual((values | methods) & pythons_own, {"__init__"})
+        for name in values | methods - {"__init__"}:
+            self.assertRegex(name, "^[a-z][a-z0-9_]*$")
+
+
 if __name__ == "__main__":
     unittest.main()

@@ -1,16 +1,29 @@
-"""[0.2] (a) to (e) What holds of all boards. [0.3] New lists, what is handed in, which refusal is raised."""
+"""[0.2] (a) to (g) What holds of all boards. [0.3] New lists, what is handed in, which refusal is raised."""
 
 import copy
 import unittest
 from itertools import product
 
 import samples
-from cellpatches import boards, measures, melting, painting, patches
-from cellpatches.errors import NoBoard, NoCell, NoFit, NoLetter, NoNumber, NoWays, PatchError
+from cellpatches import boards, keepers, measures, melting, painting, patches, scanning, texts
+from cellpatches.errors import NoBoard, NoCell, NoFit, NoLetter, NoNumber, NoText, NoWays, PatchError
 
 
 def sizes(board, ways):
     return sorted(len(patch) for patch in patches.patches(board, ways))
+
+
+def joined_over_the_seam(one, other, ways):
+    """The patches of two boards, each scanned apart, joined by what the seam tells of their numbers."""
+    above = patches.patches(one, ways)
+    below = [[(row + len(one), column) for row, column in patch] for patch in patches.patches(other, ways)]
+    groups = [({("one", number)}, patch) for number, patch in enumerate(above)]
+    groups += [({("other", number)}, patch) for number, patch in enumerate(below)]
+    for high, low in scanning.seam(one, other, ways):
+        met = [group for group in groups if group[0] & {("one", high), ("other", low)}]
+        groups = [group for group in groups if group not in met]
+        groups.append((set().union(*[names for names, _ in met]), sum([patch for _, patch in met], [])))
+    return sorted(sorted(patch) for _, patch in groups)
 
 
 class TestAllBoards(unittest.TestCase):
@@ -48,7 +61,6 @@ class TestAllBoards(unittest.TestCase):
                 for other in (boards.turned(board), boards.mirrored(board)):
                     self.assertEqual(patches.how_many(other, ways), patches.how_many(board, ways))
                     self.assertEqual(sizes(other, ways), sizes(board, ways))
-
 
     def test_sizes_and_rims(self):
         for board in samples.sample_boards(5):
@@ -98,6 +110,35 @@ class TestAllBoards(unittest.TestCase):
                     way_there = melting.steps_of(board, ways, least)
                     self.assertEqual((way_there[0], way_there[-1]), (board, then))
 
+    def test_two_boards_put_together(self):
+        for board in samples.sample_boards(5):
+            for one, other in samples.cut_boards(board):
+                whole = boards.stacked(one, other)
+                self.assertEqual(whole, board)
+                for ways in samples.BOTH_WAYS:
+                    self.assertEqual(joined_over_the_seam(one, other, ways), patches.patches(whole, ways))
+                    self.assertEqual(scanning.how_many_together(one, other, ways), patches.how_many(whole, ways))
+                    self.assertEqual(scanning.sizes_together(one, other, ways), sizes(whole, ways))
+
+    def test_texts_read_back(self):
+        for board in samples.sample_boards(5):
+            text = texts.board_text(board)
+            self.assertEqual(texts.read_board(text), board)
+            for other in (text[:-1], text + "\n", "\n" + text, text[1:-1], text.upper(), text + " ", " " + text):
+                with self.assertRaises(NoText):
+                    texts.read_board(other)
+
+    def test_no_two_boards_have_one_text(self):
+        some = set(samples.sample_boards(5))
+        for rows, width in [(1, 1), (1, 2), (2, 1), (1, 3), (3, 1), (2, 2), (2, 3), (3, 2), (1, 6), (6, 1)]:
+            some |= set(samples.every_board(rows, width, "abc"))
+        self.assertGreater(len(some), 2000)
+        told = {board: texts.board_text(board) for board in some}
+        self.assertEqual(len(set(told.values())), len(some))
+        for board, text in told.items():
+            self.assertEqual(texts.read_board(text), board)
+            self.assertEqual(texts.board_text(texts.read_board(text)), text)
+
 
 def list_calls():
     board = ("aab", "bab", "abb")
@@ -122,6 +163,9 @@ def list_calls():
         (painting.fewest_paints, (("a",), 4)),
         (melting.steps_of, (board, 4, 3)),
         (melting.steps_of, (("a",), 4, 3)),
+        (scanning.seam, (board, board, 8)),
+        (scanning.seam, (("a",), ("b",), 4)),
+        (scanning.sizes_together, (board, board, 4)),
     ]
 
 
@@ -184,6 +228,10 @@ class TestHandedIn(unittest.TestCase):
         painting.paints_over(board, 4, ["f", "b"])
         painting.fewest_paints(board, 4)
         melting.melted(board, 4, 6)
+        scanning.seam(board, board, 4)
+        scanning.sizes_together(board, board, 8)
+        texts.numbers_text(board, 4)
+        keepers.Keeper(board, 4).paint((0, 0), "f")
         self.assertEqual(board, ("aab", "bab"))
 
     def test_letters_are_as_they_were(self):
@@ -243,6 +291,15 @@ CALLS = [
     (melting.melted_once, [BOARD_PART, WAYS_PART, LEAST_PART]),
     (melting.melted, [BOARD_PART, WAYS_PART, LEAST_PART]),
     (melting.steps_of, [BOARD_PART, WAYS_PART, LEAST_PART]),
+    (scanning.seam, [BOARD_PART, BOARD_PART, WAYS_PART]),
+    (scanning.how_many_together, [BOARD_PART, BOARD_PART, WAYS_PART]),
+    (scanning.sizes_together, [BOARD_PART, BOARD_PART, WAYS_PART]),
+    (keepers.Keeper, [BOARD_PART, WAYS_PART]),
+    (keepers.Keeper(("aab", "bab"), 4).mark, [CELL_PART, LETTER_PART]),
+    (keepers.Keeper(("aab", "bab"), 4).paint, [CELL_PART, LETTER_PART]),
+    (keepers.Keeper(("aab", "bab"), 4).melt, [LEAST_PART]),
+    (texts.board_text, [BOARD_PART]),
+    (texts.numbers_text, [BOARD_PART, WAYS_PART]),
 ]
 
 

@@ -5,12 +5,16 @@ from cellpatches.errors import NoNumber
 from cellpatches.patches import all_patches, numbers_of, parts_of
 
 
+def need_number(many, thing):
+    if not is_whole(thing) or not 0 <= thing < many:
+        raise NoNumber("the number of a patch of the board is asked for")
+
+
 def patch_of_number(board, ways, number):
     need_board(board)
     need_ways(ways)
     found = all_patches(board, ways)
-    if not is_whole(number) or not 0 <= number < len(found):
-        raise NoNumber("the number of a patch of the board is asked for")
+    need_number(len(found), number)
     return found[number]
 
 

@@ -2,17 +2,15 @@
 
 from cellpatches.boards import (
     LETTERS,
-    all_cells,
     letter_of,
     need_board,
     need_cell,
     need_letter,
     need_letters,
     need_ways,
-    next_cells,
     with_letters,
 )
-from cellpatches.patches import all_patches, numbers_of, parts_of, steps_back
+from cellpatches.patches import all_patches, near_numbers, parts_of, steps_back
 
 
 def need_paint(board, cell, ways, letter):
@@ -25,17 +23,6 @@ def need_paint(board, cell, ways, letter):
 def holds_together(board, ways, patch, cell):
     rest = [member for member in patch if member != cell]
     return len(parts_of(board, rest, ways)) > 1
-
-
-# By the ways, as over corners too a paint draws in what it meets there, not only over sides.
-def near_numbers(board, ways, found):
-    numbers = numbers_of(found)
-    near = {}
-    for cell in all_cells(board):
-        mine = near.setdefault(numbers[cell], {})
-        for other in next_cells(board, cell, ways):
-            mine[numbers[other]] = True
-    return near
 
 
 def drawn_in(taken, near, signs, letter):
@@ -84,6 +71,7 @@ def fewest_paints(board, ways):
     need_board(board)
     need_ways(ways)
     found = all_patches(board, ways)
+    # By the ways, as over corners too a paint draws in what it meets there, not only over sides.
     near = near_numbers(board, ways, found)
     signs = [letter_of(board, patch[0]) for patch in found]
     whole = tuple(range(len(found)))

@@ -60,28 +60,49 @@ def numbers_of(found):
     return numbers
 
 
-def part_from(board, start, among, ways):
-    part = {start: True}
+# By ways that need not be those by which the patches hang together.
+def near_numbers(board, ways, found):
+    numbers = numbers_of(found)
+    near = {}
+    for cell in all_cells(board):
+        mine = near.setdefault(numbers[cell], {})
+        for other in next_cells(board, cell, ways):
+            if numbers[other] != numbers[cell]:
+                mine[numbers[other]] = True
+    return near
+
+
+def near_among(board, some, ways):
+    among = keyed(some)
+    near = {}
+    for cell in some:
+        near[cell] = [other for other in next_cells(board, cell, ways) if other in among]
+    return near
+
+
+# Of cells or of numbers; ring by ring, so that each one is met first by the fewest steps.
+def distances(near, start):
+    far = {start: 0}
     ring = [start]
     while ring:
         further = []
-        for cell in ring:
-            for near in next_cells(board, cell, ways):
-                if near in among and near not in part:
-                    part[near] = True
-                    further.append(near)
+        for thing in ring:
+            for other in near[thing]:
+                if other not in far:
+                    far[other] = far[thing] + 1
+                    further.append(other)
         ring = further
-    return list(part)
+    return far
 
 
 # Unlike patches, these hang together over all cells of the list, whatever their letters.
 def parts_of(board, some, ways):
-    among = keyed(some)
+    near = near_among(board, some, ways)
     parts = []
     seen = {}
     for cell in some:
         if cell not in seen:
-            part = part_from(board, cell, among, ways)
+            part = list(distances(near, cell))
             parts.append(part)
             seen.update(keyed(part))
     return parts

@@ -1,8 +1,11 @@
 """Boards and odd things for the tests, and slow, plain tellings to compare the program with."""
 
+import unittest
 from collections import Counter
 from functools import lru_cache
 from itertools import product
+
+from cellpatches.errors import PatchError
 
 BOTH_WAYS = (4, 8)
 
@@ -24,6 +27,14 @@ NO_BOARDS = [
     (["a", "b"],), (("a", "b"),), ("ab", ["a", "b"]), ("ab", ("a", "b")), (("ab",),), (("ab", "cd"), ("ab", "cd")),
     ([],), ((),), (("ab",), "ab"),
 ]
+
+
+class Refusing(unittest.TestCase):
+    def refused(self, refusal, function, *handed):
+        """It is refused with this very class, and not with one above or beside it."""
+        with self.assertRaises(PatchError, msg=repr(handed)) as caught:
+            function(*handed)
+        self.assertIs(type(caught.exception), refusal, repr(handed))
 
 
 def no_boards():
@@ -122,6 +133,16 @@ SPIRAL = (
     "aaaaaaaa",
 )
 
+NESTED = (
+    "aaaaaaa",
+    "abbbbba",
+    "abcccba",
+    "abcacba",
+    "abcccba",
+    "abbbbba",
+    "aaaaaaa",
+)
+
 CHECKERED = tuple("abababab" if row % 2 == 0 else "babababa" for row in range(8))
 
 SIX_LETTERS = ("abcdef", "bcdefa", "cdefab")
@@ -177,18 +198,28 @@ def plain_patches(board, ways):
     return sorted(groups.values())
 
 
-def plain_lengths(board, ways, one):
-    """How many cells the shortest way from the one to each cell of its patch has."""
-    lengths = {one: 1}
+def plain_costs(board, ways, one, cost):
+    """What it costs at least to come from the one to each cell, a step from cell to cell costing what is told of both.
+
+    Where a step costs None it can't be done.
+    """
+    costs = {one: 0}
     changed = True
     while changed:
         changed = False
-        for cell in list(lengths):
-            for near in plain_likes(board, cell, ways):
-                if lengths.get(near, 10 ** 6) > lengths[cell] + 1:
-                    lengths[near] = lengths[cell] + 1
+        for cell in list(costs):
+            for near in plain_beside(board, cell, ways):
+                step = cost(board[cell[0]][cell[1]], board[near[0]][near[1]])
+                if step is not None and costs.get(near, 10 ** 6) > costs[cell] + step:
+                    costs[near] = costs[cell] + step
                     changed = True
-    return lengths
+    return costs
+
+
+def plain_lengths(board, ways, one):
+    """How many cells the shortest way from the one to each cell of its patch has."""
+    costs = plain_costs(board, ways, one, lambda sign, other: 1 if sign == other else None)
+    return {cell: steps + 1 for cell, steps in costs.items()}
 
 
 def plain_is_way(board, ways, one, other, thing):
@@ -300,3 +331,22 @@ def plain_melted_once(board, ways, least):
             best = (sides, len(patch), patch)
     row, column = best[2][0]
     return plain_marked(board, melting, board[row][column])
+
+
+def plain_neighbours(board, ways):
+    """The numbers that share a side with each number."""
+    near = {number: set() for number in range(len(plain_patches(board, ways)))}
+    for (one, other), _ in plain_touching(board, ways):
+        near[one].add(other)
+        near[other].add(one)
+    return near
+
+
+def plain_borders(board, ways):
+    """How many borders are between each two numbers: all of them bettered over each third one."""
+    near = plain_neighbours(board, ways)
+    far = {(one, other): 0 if one == other else 1 if other in near[one] else 10 ** 6 for one in near for other in near}
+    for third in near:
+        for one, other in far:
+            far[one, other] = min(far[one, other], far[one, third] + far[third, other])
+    return far

@@ -4,7 +4,7 @@ import unittest
 
 import samples
 from cellpatches.boards import with_letter
-from cellpatches.errors import NoBoard, NoCell, NoLetter, NoNumber, NoWays, Nothing, PatchError
+from cellpatches.errors import NoBoard, NoCell, NoLetter, NoNumber, NoWays, Nothing
 from cellpatches.keepers import Keeper
 
 BENT = (
@@ -249,17 +249,15 @@ for bad_cell in (None, (3, 0), [0, 0], (True, 0)):
         REFUSED.append((NoCell, "paint", (bad_cell, bad_letter)))
 
 
-class TestRefusals(unittest.TestCase):
-    def refused(self, keeper, refusal, name, handed):
-        with self.assertRaises(PatchError, msg=repr((name, handed))) as caught:
-            getattr(keeper, name)(*handed)
-        self.assertIs(type(caught.exception), refusal, repr((name, handed)))
+class TestRefusals(samples.Refusing):
+    def keeper_refuses(self, keeper, refusal, name, handed):
+        self.refused(refusal, getattr(keeper, name), *handed)
 
     def test_of_a_new_keeper(self):
         for refusal, name, handed in REFUSED:
             for ways in samples.BOTH_WAYS:
                 keeper = Keeper(BENT, ways)
-                self.refused(keeper, refusal, name, handed)
+                self.keeper_refuses(keeper, refusal, name, handed)
                 self.assertEqual(taken_back(keeper), [BENT])
 
     def test_all_is_as_ahead(self):
@@ -269,21 +267,21 @@ class TestRefusals(unittest.TestCase):
             keeper.paint((1, 1), "b")
             board, many = keeper.shown(), keeper.many()
             for refusal, name, handed in REFUSED:
-                self.refused(keeper, refusal, name, handed)
+                self.keeper_refuses(keeper, refusal, name, handed)
                 self.assertEqual((keeper.shown(), keeper.many()), (board, many))
             self.assertEqual(taken_back(keeper), [board, ("cab", "bab", "abb"), BENT])
             for _ in range(3):
-                self.refused(keeper, Nothing, "undo", ())
+                self.keeper_refuses(keeper, Nothing, "undo", ())
                 self.assertEqual((keeper.shown(), keeper.many()), (BENT, plain_many(BENT, ways)))
             keeper.mark((0, 0), "d")
             self.assertEqual(taken_back(keeper), [("dab", "bab", "abb"), BENT])
 
     def test_a_cell_of_this_board(self):
         keeper = Keeper(("ab",), 4)
-        self.refused(keeper, NoCell, "mark", ((1, 0), "a"))
+        self.keeper_refuses(keeper, NoCell, "mark", ((1, 0), "a"))
         keeper.mark((0, 1), "c")
-        self.refused(keeper, NoCell, "paint", ((1, 0), "a"))
-        self.refused(Keeper(("a", "b"), 4), NoCell, "paint", ((0, 1), "a"))
+        self.keeper_refuses(keeper, NoCell, "paint", ((1, 0), "a"))
+        self.keeper_refuses(Keeper(("a", "b"), 4), NoCell, "paint", ((0, 1), "a"))
 
 
 class TestTwoKeepers(unittest.TestCase):

@@ -37,16 +37,6 @@ GAP = (
     "aaa",
 )
 
-NESTED = (
-    "aaaaaaa",
-    "abbbbba",
-    "abcccba",
-    "abcacba",
-    "abcccba",
-    "abbbbba",
-    "aaaaaaa",
-)
-
 
 class TestSizeRimBox(unittest.TestCase):
     def check(self, board, ways, number, wanted):
@@ -180,10 +170,10 @@ class TestShutIn(unittest.TestCase):
         for ways in samples.BOTH_WAYS:
             five = [(row, column) for row in range(1, 6) for column in range(1, 6)]
             three = [(row, column) for row in range(2, 5) for column in range(2, 5)]
-            self.check(NESTED, ways, 0, five, 1)
-            self.check(NESTED, ways, 1, three, 1)
-            self.check(NESTED, ways, 2, [(3, 3)], 1)
-            self.check(NESTED, ways, 3, [], 0)
+            self.check(samples.NESTED, ways, 0, five, 1)
+            self.check(samples.NESTED, ways, 1, three, 1)
+            self.check(samples.NESTED, ways, 2, [(3, 3)], 1)
+            self.check(samples.NESTED, ways, 3, [], 0)
 
     def test_one_hole_of_several_patches(self):
         board = ("aaaaa", "abcba", "adeda", "abfba", "aaaaa")
@@ -197,7 +187,7 @@ class TestShutIn(unittest.TestCase):
             self.check(board, ways, number, wanted, samples.plain_groups(wanted, 12 - ways))
 
     def test_many_boards(self):
-        for board in samples.sample_boards() + [GAP, NESTED, RING]:
+        for board in samples.sample_boards() + [GAP, samples.NESTED, RING]:
             for ways in samples.BOTH_WAYS:
                 self.check_board(board, ways)
 
@@ -323,7 +313,7 @@ class TestAtEdge(unittest.TestCase):
         for ways in samples.BOTH_WAYS:
             self.assertEqual(at_edge(("aaa", "aba", "aaa"), ways), [0])
             self.assertEqual(at_edge(RING, ways), [0])
-            self.assertEqual(at_edge(NESTED, ways), [0])
+            self.assertEqual(at_edge(samples.NESTED, ways), [0])
             self.assertEqual(at_edge(("aaaa", "abca", "aada"), ways), [0, 3])
         self.assertEqual(at_edge(("aaaa", "abca", "aaba"), 4), [0, 3])
         self.assertEqual(at_edge(("aaaa", "abca", "aaba"), 8), [0, 1])

@@ -4,7 +4,7 @@ import unittest
 from itertools import product
 
 import samples
-from cellpatches.errors import NoBoard, NoFit, NoWays, PatchError
+from cellpatches.errors import NoBoard, NoFit, NoWays
 from cellpatches.scanning import how_many_together, seam, sizes_together
 
 ALL = (seam, how_many_together, sizes_together)
@@ -181,35 +181,33 @@ class TestTogether(unittest.TestCase):
                     self.check(one, other, ways, wanted)
 
 
-class TestRefusals(unittest.TestCase):
-    def refused(self, one, other, ways, refusal):
+class TestRefusals(samples.Refusing):
+    def all_refused(self, one, other, ways, refusal):
         for function in ALL:
-            with self.assertRaises(PatchError, msg=repr((one, other, ways))) as caught:
-                function(one, other, ways)
-            self.assertIs(type(caught.exception), refusal, repr((one, other, ways)))
+            self.refused(refusal, function, one, other, ways)
 
     def test_no_board(self):
         for thing in samples.no_boards():
-            self.refused(thing, ("ab",), 4, NoBoard)
-            self.refused(("ab",), thing, 8, NoBoard)
+            self.all_refused(thing, ("ab",), 4, NoBoard)
+            self.all_refused(("ab",), thing, 8, NoBoard)
 
     def test_no_ways(self):
         for thing in samples.no_ways():
-            self.refused(("ab",), ("ab",), thing, NoWays)
-            self.refused(("ab",), ("abc",), thing, NoWays)
+            self.all_refused(("ab",), ("ab",), thing, NoWays)
+            self.all_refused(("ab",), ("abc",), thing, NoWays)
 
     def test_not_as_wide(self):
         for one, other in product(range(1, 9), repeat=2):
             if one != other:
                 for ways in samples.BOTH_WAYS:
-                    self.refused(("a" * one,), ("a" * other,), ways, NoFit)
+                    self.all_refused(("a" * one,), ("a" * other,), ways, NoFit)
 
     def test_rows_together(self):
         for one, other in product(range(1, 9), repeat=2):
             for ways in samples.BOTH_WAYS:
                 above, below = ("ab",) * one, ("ab",) * other
                 if one + other > 8:
-                    self.refused(above, below, ways, NoFit)
+                    self.all_refused(above, below, ways, NoFit)
                 else:
                     self.assertEqual(seam(above, below, ways), [(0, 0), (1, 1)])
                     self.assertEqual(sizes_together(above, below, ways), [one + other] * 2)
@@ -220,13 +218,13 @@ class TestRefusals(unittest.TestCase):
         for one, other in no_fits:
             for bad in no_board:
                 for ways in (4, 8, None, 5, True, "4"):
-                    self.refused(bad, other, ways, NoBoard)
-                    self.refused(one, bad, ways, NoBoard)
-                    self.refused(bad, bad, ways, NoBoard)
+                    self.all_refused(bad, other, ways, NoBoard)
+                    self.all_refused(one, bad, ways, NoBoard)
+                    self.all_refused(bad, bad, ways, NoBoard)
             for ways in (None, 5, True, "4", [4], 12):
-                self.refused(one, other, ways, NoWays)
+                self.all_refused(one, other, ways, NoWays)
             for ways in samples.BOTH_WAYS:
-                self.refused(one, other, ways, NoFit)
+                self.all_refused(one, other, ways, NoFit)
 
 
 if __name__ == "__main__":

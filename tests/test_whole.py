@@ -1,16 +1,21 @@
-"""[0.2] (a) to (g) What holds of all boards. [0.3] New lists, what is handed in, which refusal is raised."""
+"""[0.2] (a) to (k) What holds of all boards. [0.3] New lists, what is handed in, which refusal is raised."""
 
 import copy
 import unittest
 from itertools import product
 
 import samples
-from cellpatches import boards, keepers, measures, melting, painting, patches, scanning, texts
+from cellpatches import (
+    boards, games, keepers, maps, measures, melting, painting, parts, patches, roads, scanning, texts,
+)
 from cellpatches.errors import NoBoard, NoCell, NoFit, NoLetter, NoNumber, NoText, NoWays, PatchError
 
 
 def sizes(board, ways):
     return sorted(len(patch) for patch in patches.patches(board, ways))
+
+
+FEW_CELLS = [(1, 1), (1, 4), (4, 1), (2, 3), (3, 3), (4, 4), (3, 5), (5, 5)]
 
 
 def joined_over_the_seam(one, other, ways):
@@ -139,6 +144,93 @@ class TestAllBoards(unittest.TestCase):
             self.assertEqual(texts.read_board(text), board)
             self.assertEqual(texts.board_text(texts.read_board(text)), text)
 
+    def test_borders(self):
+        for board in samples.drawn_boards(3, FEW_CELLS) + samples.KNOWN_BOARDS[3:]:
+            for ways in samples.BOTH_WAYS:
+                numbers = range(patches.how_many(board, ways))
+                far = {pair: maps.borders(board, ways, *pair) for pair in product(numbers, numbers)}
+                for one, other in far:
+                    self.assertEqual(far[one, other], far[other, one], (board, ways))
+                    self.assertEqual(far[one, other] == 0, one == other, (board, ways))
+                    self.assertEqual(far[one, other] == 1, other in maps.neighbours(board, ways, one), (board, ways))
+                    for third in numbers:
+                        self.assertLessEqual(far[one, other], far[one, third] + far[third, other], (board, ways))
+
+    def test_letters_change_no_more_often_than_borders_are_crossed(self):
+        fewer = 0
+        for board in samples.sample_boards(3):
+            some = boards.cells(board)
+            for ways in samples.BOTH_WAYS:
+                numbers = patches.numbered(board, ways)
+                for one, other in product(some[::7], some[::5]):
+                    crossed = maps.borders(board, ways, numbers[one[0]][one[1]], numbers[other[0]][other[1]])
+                    changes = roads.fewest_changes(board, ways, one, other)
+                    self.assertLessEqual(changes, crossed, (board, ways, one, other))
+                    self.assertEqual(changes == 0, patches.are_one(board, ways, one, other))
+                    if ways == 4:
+                        self.assertEqual(changes, crossed, (board, one, other))
+                    fewer += changes < crossed
+        self.assertGreater(fewer, 50)
+
+    def test_a_part_is_found_where_it_was_cut_out(self):
+        for board in samples.sample_boards(3):
+            some = boards.cells(board)
+            for (top, left), (low, right) in product(some[::3], some[::2] + some[-1:]):
+                if top <= low and left <= right:
+                    part = parts.cut_out(board, top, left, low, right)
+                    found = parts.found_in(board, part)
+                    self.assertIn((top, left), found, (board, part))
+                    for row, column in found:
+                        height, width = len(part) - 1, len(part[0]) - 1
+                        self.assertEqual(parts.cut_out(board, row, column, row + height, column + width), part)
+
+    def test_boards_with_other_letters(self):
+        for board in samples.sample_boards(4):
+            others = [parts.relettered(board)]
+            for one, other in product("abcdef", repeat=2):
+                others.append(parts.swapped(others[-1], one, other))
+            for other in others[::4]:
+                self.assertIs(parts.are_like(board, other), True)
+                self.assertEqual(parts.relettered(other), others[0])
+                for ways in samples.BOTH_WAYS:
+                    self.assertEqual(patches.patches(other, ways), patches.patches(board, ways))
+
+    def test_what_is_taken_is_as_many_as_are_fewer(self):
+        for board in samples.sample_boards(3):
+            for ways in samples.BOTH_WAYS:
+                game = games.Game(board, ways)
+                stages = [(game.rows(), game.left(), game.points())]
+                told = []
+                while game.can_take():
+                    before = game.left()
+                    told.append(game.take(game.can_take()[len(told) % len(game.can_take())]))
+                    self.assertEqual(told[-1], before - game.left())
+                    stages.append((game.rows(), game.left(), game.points()))
+                self.assertEqual(game.points(), sum(many * many for many in told))
+                self.check_back_and_forth(game, stages, told)
+                self.check_a_twin(game, stages)
+
+    def check_back_and_forth(self, game, stages, told):
+        for place in reversed(range(len(told))):
+            self.assertEqual(game.back(), told[place])
+            self.assertEqual((game.rows(), game.left(), game.points()), stages[place])
+            self.assertEqual(game.steps(), (place, len(told) - place))
+        for place, many in enumerate(told):
+            self.assertEqual(game.forth(), many)
+            self.assertEqual((game.rows(), game.left(), game.points()), stages[place + 1])
+            self.assertEqual(game.steps(), (place + 1, len(told) - place - 1))
+
+    def check_a_twin(self, game, stages):
+        other = game.twin()
+        for stage in reversed(stages[:-1]):
+            other.back()
+            self.assertEqual((other.rows(), other.left(), other.points()), stage)
+            self.assertEqual((game.rows(), game.left(), game.points()), stages[-1])
+        if len(stages) > 1:
+            other.take(other.can_take()[-1])
+            self.assertEqual(other.steps(), (1, 0))
+            self.assertEqual(game.steps(), (len(stages) - 1, 0))
+
 
 def list_calls():
     board = ("aab", "bab", "abb")
@@ -166,6 +258,12 @@ def list_calls():
         (scanning.seam, (board, board, 8)),
         (scanning.seam, (("a",), ("b",), 4)),
         (scanning.sizes_together, (board, board, 4)),
+        (maps.neighbours, (board, 4, 0)),
+        (maps.neighbours, (("a",), 4, 0)),
+        (parts.found_in, (board, ("ab",))),
+        (parts.found_in, (board, ("f",))),
+        (games.Game(board, 4).can_take, ()),
+        (games.Game(("a",), 4).can_take, ()),
     ]
 
 
@@ -232,16 +330,25 @@ class TestHandedIn(unittest.TestCase):
         scanning.sizes_together(board, board, 8)
         texts.numbers_text(board, 4)
         keepers.Keeper(board, 4).paint((0, 0), "f")
+        maps.middle(board, 4)
+        roads.fewest_changes(board, 4, (0, 0), (1, 0))
+        parts.cut_out(board, 0, 0, 1, 1)
+        parts.relettered(board)
+        parts.swapped(board, "a", "b")
+        games.Game(board, 4).take((0, 0))
         self.assertEqual(board, ("aab", "bab"))
 
     def test_letters_are_as_they_were(self):
         for letters in [[], ["b"], ["f", "b", "b"]]:
             kept = list(letters)
             painting.paints_over(("aab", "bab"), 4, letters)
+            roads.steps_over(("aab", "bab"), 4, letters, (0, 0), (0, 2))
             self.assertEqual(letters, kept)
         letters = ["f", ["b"], "a"]
         with self.assertRaises(NoLetter):
             painting.paints_over(("aab", "bab"), 4, letters)
+        with self.assertRaises(NoLetter):
+            roads.steps_over(("aab", "bab"), 4, letters, (0, 0), (0, 2))
         self.assertEqual(letters, ["f", ["b"], "a"])
 
     def test_equal_boards_are_told_alike(self):
@@ -256,8 +363,10 @@ BOARD_PART = (("aab", "bab"), [None, ["aab"], ("ab", "a"), (), 4], NoBoard)
 CELL_PART = ((0, 0), [None, (2, 0), (0, -1), [0, 0], (True, 0)], NoCell)
 WAYS_PART = (4, [None, 5, True, "4", [8]], NoWays)
 LETTER_PART = ("a", [None, "g", "", ["a"], 1], NoLetter)
-LETTERS_PART = (["b"], [["g"], ["a", None], [1, "a"], ["b", ["a"]]], NoLetter)
+LETTERS_PART = (["b"], [["g"], ["a", None], [1, "a"], ["b", ["a"]], None, "b", ("b",)], NoLetter)
 NUMBER_PART = (0, [None, -1, 3, True, "0", [0], (0,)], NoNumber)
+SPOT_PART = (0, [None, -1, 3, True, "0", [0]], NoCell)
+TEXT_PART = ("a\n", [None, "", "a", "g\n", ["a\n"]], NoText)
 LEAST_PART = (2, [None, 0, 65, -2, True, "2", [2], (2,)], NoNumber)
 
 CALLS = [
@@ -300,6 +409,19 @@ CALLS = [
     (keepers.Keeper(("aab", "bab"), 4).melt, [LEAST_PART]),
     (texts.board_text, [BOARD_PART]),
     (texts.numbers_text, [BOARD_PART, WAYS_PART]),
+    (texts.read_board, [TEXT_PART]),
+    (maps.neighbours, [BOARD_PART, WAYS_PART, NUMBER_PART]),
+    (maps.borders, [BOARD_PART, WAYS_PART, NUMBER_PART, NUMBER_PART]),
+    (maps.middle, [BOARD_PART, WAYS_PART]),
+    (roads.fewest_changes, [BOARD_PART, WAYS_PART, CELL_PART, CELL_PART]),
+    (roads.steps_over, [BOARD_PART, WAYS_PART, LETTERS_PART, CELL_PART, CELL_PART]),
+    (parts.cut_out, [BOARD_PART, SPOT_PART, SPOT_PART, SPOT_PART, SPOT_PART]),
+    (parts.found_in, [BOARD_PART, BOARD_PART]),
+    (parts.relettered, [BOARD_PART]),
+    (parts.are_like, [BOARD_PART, BOARD_PART]),
+    (parts.swapped, [BOARD_PART, LETTER_PART, LETTER_PART]),
+    (games.Game, [BOARD_PART, WAYS_PART]),
+    (games.Game(("aab", "bab"), 4).take, [CELL_PART]),
 ]
 
 
